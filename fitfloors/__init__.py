@@ -1,0 +1,1 @@
+"""Fitfloors: floors laid with pieces, and papers that none fit."""
