@@ -1,5 +1,6 @@
 """Points 3 and 4: puzzles, their placements, and layings."""
 
+import copy
 import itertools
 import unittest
 
@@ -513,6 +514,20 @@ class ShownTest(Case):
     def test_the_puzzle_is_looked_at_first(self):
         for value, word in WRONG:
             self.bad_puzzle(word, shown, value, None)
+
+
+class ArgumentsTest(unittest.TestCase):
+    def test_arguments_are_not_changed(self):
+        puzzle = [["##", "##"], [[[(1, 0), (0, 0)], 2]], False]
+        laying = [[0, [(1, 0), (0, 0)]], [0, [(1, 1), (0, 1)]]]
+        kept = copy.deepcopy((puzzle, laying))
+        self.assertIs(is_puzzle(puzzle), False)
+        self.assertIs(is_puzzle(tuple(puzzle)), False)
+        self.assertIs(is_puzzle((FLOOR, puzzle[1], False)), False)
+        self.assertIs(is_puzzle((FLOOR, (tuple(puzzle[1][0]),), False)), False)
+        self.assertIs(is_laying(PLAIN, laying), False)
+        self.assertIs(is_laying(PLAIN, tuple(laying)), False)
+        self.assertEqual((puzzle, laying), kept)
 
 
 class ExampleTest(unittest.TestCase):
