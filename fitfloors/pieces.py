@@ -1,6 +1,7 @@
 """Pieces, their forms by turning and flipping, and how they are drawn."""
 
 from fitfloors.errors import BadPiece
+from fitfloors.turnings import all_turnings, flipped_cells, set_home, turned_cells
 from fitfloors.values import is_between, is_cell
 
 MOST_CELLS = 5
@@ -12,29 +13,25 @@ def is_piece(value):
         return False
     if not all([is_cell(cell) for cell in value]):
         return False
-    return len(set(value)) == len(value) and _set_home(value) == value and _hangs_together(value)
+    return len(set(value)) == len(value) and set_home(value) == value and _hangs_together(value)
 
 
 def turned(piece):
     """Give the piece turned by a quarter, its north to the east."""
     _check_piece(piece)
-    return _turned_cells(piece)
+    return set_home(turned_cells(piece))
 
 
 def flipped(piece):
     """Give the piece with left and right exchanged."""
     _check_piece(piece)
-    return _flipped_cells(piece)
+    return set_home(flipped_cells(piece))
 
 
 def forms(piece, is_flipped):
     """Give the unlike forms of a piece by turning, and by flipping if told."""
     _check_piece(piece)
-    found = set(_four_turnings(piece))
-    if is_flipped:
-        for form in _four_turnings(_flipped_cells(piece)):
-            found.add(form)
-    return tuple(sorted(found))
+    return tuple(sorted({set_home(images) for images in all_turnings(piece, is_flipped)}))
 
 
 def least_form(piece):
@@ -65,28 +62,6 @@ def _check_piece(value):
         raise BadPiece()
 
 
-def _set_home(cells):
-    """Give the cells, ascending, moved to least row and column 0."""
-    top = min([row for row, column in cells])
-    left = min([column for row, column in cells])
-    return tuple(sorted([(row - top, column - left) for row, column in cells]))
-
-
-def _turned_cells(cells):
-    return _set_home([(column, -row) for row, column in cells])
-
-
-def _flipped_cells(cells):
-    return _set_home([(row, -column) for row, column in cells])
-
-
-def _four_turnings(piece):
-    found = [piece]
-    for _ in range(3):
-        found.append(_turned_cells(found[-1]))
-    return found
-
-
 def _cells_beside(cell):
     row, column = cell
     return [(row - 1, column), (row, column - 1), (row, column + 1), (row + 1, column)]
@@ -114,7 +89,7 @@ def _one_cell_more(pieces):
         for cell in piece:
             for added in _cells_beside(cell):
                 if added not in piece:
-                    found.add(least_form(_set_home([*piece, added])))
+                    found.add(least_form(set_home([*piece, added])))
     return sorted(found)
 
 

@@ -68,19 +68,29 @@ def check_cell(puzzle, value):
 def is_laying(puzzle, value):
     """Tell whether a value is a laying."""
     check_puzzle(puzzle)
-    if not isinstance(value, tuple) or not all([_is_kind_and_cells(part) for part in value]):
-        return False
-    known = placements(puzzle)
-    if not all([part in known for part in value]) or sorted(value) != list(value):
+    if not isinstance(value, tuple) or not are_placements(puzzle, value):
         return False
     covered = [cell for kind, cells in value for cell in cells]
     return sorted(covered) == list(floor_cells(puzzle)) and _takes_whole_box(puzzle[1], value)
 
 
+def check_laying(puzzle, value):
+    """Raise BadPuzzle for a value that is no laying, behind the puzzle's own error."""
+    if not is_laying(puzzle, value):
+        raise BadPuzzle("laying")
+
+
+def are_placements(puzzle, values):
+    """Tell whether any values are placements, unlike and ascending."""
+    if not all([_is_kind_and_cells(value) for value in values]):
+        return False
+    known = placements(puzzle)
+    return all([value in known for value in values]) and sorted(set(values)) == list(values)
+
+
 def shown(puzzle, laying):
     """Give the rows of the floor with the letter of the kind that lies on each cell."""
-    if not is_laying(puzzle, laying):
-        raise BadPuzzle("laying")
+    check_laying(puzzle, laying)
     signs = {}
     for kind, cells in laying:
         for cell in cells:

@@ -4,233 +4,37 @@ import copy
 import itertools
 import unittest
 
-from fitfloors.errors import BadCell, BadPuzzle
+from fitfloors.errors import BadCell
 from fitfloors.pieces import forms, pieces_of
 from fitfloors.puzzles import covering, floor_cells, is_laying, is_puzzle, placements, shown, spare
+from samples import (
+    BACK_STEPS,
+    BENT,
+    BOX,
+    FIVE,
+    FLAT,
+    FLOOR,
+    HOLED,
+    HOOK,
+    LARGE,
+    MIXED,
+    NO_CELLS_OF_PLAIN,
+    NO_LAYINGS_OF_PLAIN,
+    ONE,
+    PLAIN,
+    PUZZLES,
+    SQUARE,
+    STAIRS,
+    STAIRS_FLIPPED,
+    STEPS,
+    THREE,
+    TOO_SMALL,
+    TWO,
+    UPRIGHT,
+    WRONG,
+    Case,
+)
 from searches import layings_by_search, placements_by_search
-
-ONE = ((0, 0),)
-TWO = ((0, 0), (0, 1))
-THREE = ((0, 0), (0, 1), (0, 2))
-BENT = ((0, 0), (0, 1), (1, 0))
-SQUARE = ((0, 0), (0, 1), (1, 0), (1, 1))
-HOOK = ((0, 0), (0, 1), (0, 2), (1, 0))
-STEPS = ((0, 0), (0, 1), (1, 1), (1, 2))
-BACK_STEPS = ((0, 1), (0, 2), (1, 0), (1, 1))
-FIVE = ((0, 0), (0, 1), (0, 2), (0, 3), (0, 4))
-
-FLOOR = ("##", "##")
-BOX = ((TWO, 2),)
-PLAIN = (FLOOR, BOX, False)
-FLAT = ((0, ((0, 0), (0, 1))), (0, ((1, 0), (1, 1))))
-UPRIGHT = ((0, ((0, 0), (1, 0))), (0, ((0, 1), (1, 1))))
-
-HOLED = (("###", "#-#", "###"), ((THREE, 1), (TWO, 1), (BENT, 1)), False)
-MIXED = (("####", "###-"), ((BENT, 1), (TWO, 1), (ONE, 2)), True)
-STAIRS = (("###", "###"), ((STEPS, 1), (ONE, 2)), False)
-STAIRS_FLIPPED = (("###", "###"), ((STEPS, 1), (ONE, 2)), True)
-TOO_SMALL = (("##", "##"), ((THREE, 1), (ONE, 1)), False)
-
-LARGE = (("-####", "#####", "#####", "-#-#-"), ((FIVE, 1), (HOOK, 1), (BENT, 1), (ONE, 4)), True)
-
-PUZZLES = [PLAIN, HOLED, MIXED, STAIRS, STAIRS_FLIPPED, TOO_SMALL, LARGE, (("#",), ((ONE, 1),), True)]
-
-# Values that are no puzzle, with the word for what is wrong first.
-NO_FLOORS = [
-    None,
-    0,
-    True,
-    "##",
-    ["##", "##"],
-    (),
-    ("#",) * 7,
-    ("-",) * 7,
-    ("",),
-    ("", ""),
-    ("#######",),
-    ("#------",),
-    ("##", "#"),
-    ("#", "##"),
-    ("##", "##", ""),
-    ("--", "--"),
-    ("-",),
-    ("######", "######", "#####-"),
-    ("######",) * 3,
-    ("######",) * 6,
-    ("####",) * 4 + ("#---",),
-    ("#.", "##"),
-    ("# ",),
-    ("#a",),
-    ("#\n",),
-    ("##", None),
-    ("##", 1),
-    (b"##",),
-    (("#", "#"),),
-    (["#", "#"],),
-    ("##", True),
-]
-NO_BOXES = [
-    None,
-    0,
-    "a",
-    (),
-    [(TWO, 2)],
-    {TWO: 2},
-    (TWO, 2),
-    ([TWO, 2],),
-    ((TWO,),),
-    ((TWO, 2, False),),
-    ((TWO, 2), ()),
-    ((TWO, 2), None),
-    ((2, TWO),),
-    ((TWO, 0),),
-    ((TWO, -1),),
-    ((TWO, 9),),
-    ((TWO, 10**20),),
-    ((TWO, True),),
-    ((TWO, False),),
-    ((TWO, 2.0),),
-    ((TWO, "2"),),
-    ((TWO, None),),
-    ((list(TWO), 2),),
-    (((), 2),),
-    ((((0, 1), (0, 2)), 2),),
-    ((((0, 0), (1, 1)), 2),),
-    ((((0, 0), (0, True)), 2),),
-    ((None, 2),),
-    ((ONE, 1), (TWO, 1), (THREE, 1), (BENT, 1), (SQUARE, 1)),
-    ((TWO, 1), (TWO, 1)),
-    ((TWO, 1), (((0, 0), (1, 0)), 2)),
-    ((ONE, 1), (STEPS, 1), (BACK_STEPS, 1)),
-    ((BENT, 1), (TWO, 1), (((0, 1), (1, 0), (1, 1)), 3)),
-]
-NO_FLAGS = [None, 0, 1, "yes", "", (), "True", [True], (True,), 1.0]
-NO_TRIPLES = [
-    None,
-    0,
-    3,
-    True,
-    "abc",
-    "",
-    (),
-    (FLOOR,),
-    (FLOOR, BOX),
-    (FLOOR, BOX, False, False),
-    [FLOOR, BOX, False],
-    {FLOOR: 1, BOX: 2, False: 3},
-    ((FLOOR, BOX, False),),
-    (None, None),
-]
-WRONG = [(value, "form") for value in NO_TRIPLES]
-WRONG += [((value, BOX, False), "floor") for value in NO_FLOORS]
-WRONG += [((FLOOR, value, True), "box") for value in NO_BOXES]
-WRONG += [((FLOOR, BOX, value), "flipped") for value in NO_FLAGS]
-# Several things are wrong at once.
-WRONG += [
-    ([None, None, None], "form"),
-    ((None, None), "form"),
-    ((("--",), (), 1, 1), "form"),
-    ((None, None, None), "floor"),
-    ((("--",), (), 1), "floor"),
-    ((("--",), BOX, 1), "floor"),
-    ((("--",), (), True), "floor"),
-    ((BOX, FLOOR, False), "floor"),
-    ((False, BOX, FLOOR), "floor"),
-    ((FLOOR, (), 1), "box"),
-    ((FLOOR, False, BOX), "box"),
-    ((FLOOR, ((TWO, 1), (TWO, 9)), None), "box"),
-]
-
-NO_CELLS_OF_PLAIN = [
-    (0, 2),
-    (2, 0),
-    (-1, 0),
-    (0, -1),
-    (10**20, 0),
-    (),
-    (0,),
-    (0, 0, 0),
-    [0, 0],
-    (True, 0),
-    (0, True),
-    (False, False),
-    (1, True),
-    (0.0, 0),
-    ("0", "0"),
-    (None, 0),
-    ((0, 0),),
-    ([], 0),
-    None,
-    0,
-    True,
-    "",
-    "00",
-    "(0, 0)",
-    b"00",
-    {(0, 0): True},
-    {0, 1},
-]
-
-NO_LAYINGS_OF_PLAIN = [
-    # no tuple of pairs of a kind and cells
-    None,
-    0,
-    True,
-    "",
-    "aa",
-    [],
-    list(FLAT),
-    [list(FLAT[0]), list(FLAT[1])],
-    {FLAT[0]: True, FLAT[1]: True},
-    set(FLAT),
-    (None, None),
-    (0, ((0, 0), (0, 1))),
-    ((0,), (0,)),
-    (FLAT,),
-    (FLAT[0], list(FLAT[1])),
-    (FLAT[0], (0, [(1, 0), (1, 1)])),
-    (FLAT[0], (0, ([1, 0], [1, 1]))),
-    (FLAT[0], (0, ((1, 0), None))),
-    (FLAT[0], (0, None)),
-    (FLAT[0], (0, 1)),
-    (FLAT[0], (0, "ab")),
-    (FLAT[0], (0, ())),
-    (FLAT[0], (0, ((1, 0), (1, 1)), 0)),
-    (FLAT[0], (None, ((1, 0), (1, 1)))),
-    (FLAT[0], ("a", ((1, 0), (1, 1)))),
-    # equal to a laying, but with values that are no integers
-    (FLAT[0], (False, ((1, 0), (1, 1)))),
-    ((0, ((0, 0), (False, 1))), FLAT[1]),
-    ((0, ((0, 0), (0, True))), FLAT[1]),
-    (FLAT[0], (0.0, ((1, 0), (1, 1)))),
-    (FLAT[0], (0, ((1.0, 0), (1, 1)))),
-    # not ascending
-    (FLAT[1], FLAT[0]),
-    ((0, ((0, 1), (0, 0))), FLAT[1]),
-    # no placements
-    (FLAT[0], (1, ((1, 0), (1, 1)))),
-    ((-1, ((0, 0), (0, 1))), FLAT[1]),
-    (FLAT[0], (0, ((1, 0),)), (0, ((1, 1),))),
-    ((0, ((0, 0), (0, 1), (1, 0), (1, 1))),),
-    ((0, ((0, 0), (1, 1))), (0, ((0, 1), (1, 0)))),
-    (FLAT[0], (0, ((1, 1), (1, 2)))),
-    # a cell twice, a bare cell, too few, too many
-    (FLAT[0], FLAT[0]),
-    (FLAT[0], (0, ((0, 1), (1, 1)))),
-    (FLAT[0], UPRIGHT[0]),
-    (),
-    (FLAT[0],),
-    (FLAT[1],),
-    (FLAT[0], FLAT[0], FLAT[1]),
-    (FLAT[0], UPRIGHT[0], UPRIGHT[1], FLAT[1]),
-]
-
-
-class Case(unittest.TestCase):
-    def bad_puzzle(self, word, call, *arguments):
-        with self.assertRaises(BadPuzzle, msg=(call, arguments)) as caught:
-            call(*arguments)
-        self.assertEqual(caught.exception.word, word, (call, arguments))
 
 
 class IsPuzzleTest(Case):
