@@ -1,4 +1,4 @@
-"""Sums of lists of integers, each times any integer."""
+"""Sums of lists of integers, each times any integer, and weights by which a list is no such sum."""
 
 
 def echelon(rows, width):
@@ -21,6 +21,34 @@ def lessened(steps, row, width):
         if place in steps:
             row = _less(row, row[place] // steps[place][place], steps[place])
     return row
+
+
+def weights_against(steps, row):
+    """Give numbers for the places of a row, by which each step weighs an integer and the row does not.
+
+    The answer is a pair: the list of their numerators, and the denominator of
+    them all. It is None if the row is a sum of the steps.
+    """
+    rest = lessened(steps, row, len(row))
+    places = [place for place in range(len(row)) if rest[place] != 0]
+    if not places:
+        return None
+    # The rest has nothing before this place, and here no multiple of what the
+    # step has, if there is one: divided by that, it is no integer.
+    place = places[0]
+    numerators = [int(place == other) for other in range(len(row))]
+    denominator = steps[place][place] if place in steps else abs(rest[place]) + 1
+    # Steps of later places weigh nothing, as no later place has a weight. Those
+    # of places before are made to weigh nothing by a weight at their own place,
+    # the last one first, as each has numbers at later places, too.
+    for other in range(place - 1, -1, -1):
+        if other in steps:
+            step = steps[other]
+            weight = sum([numerator * entry for numerator, entry in zip(numerators, step)])
+            numerators = [numerator * step[other] for numerator in numerators]
+            numerators[other] = -weight
+            denominator *= step[other]
+    return numerators, denominator
 
 
 def _take_in(steps, row, width):

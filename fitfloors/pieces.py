@@ -57,6 +57,22 @@ def drawn(piece):
     return tuple([_drawn_row(piece, row, wide) for row in range(high)])
 
 
+def piece_drawn(rows):
+    """Give the piece of which these are the rows, None if there is none."""
+    cells = cells_drawn(rows)
+    return cells if is_piece(cells) and drawn(cells) == tuple(rows) else None
+
+
+def cells_drawn(rows):
+    """Give the cells at which rows have the sign #, ascending."""
+    found = []
+    for row, signs in enumerate(rows):
+        for column, sign in enumerate(signs):
+            if sign == "#":
+                found.append((row, column))
+    return tuple(found)
+
+
 def _check_piece(value):
     if not is_piece(value):
         raise BadPiece()

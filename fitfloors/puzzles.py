@@ -1,7 +1,7 @@
 """Puzzles, the placements of their pieces, and layings."""
 
 from fitfloors.errors import BadCell, BadPuzzle
-from fitfloors.pieces import forms, is_piece, least_form
+from fitfloors.pieces import forms, is_piece, least_form, cells_drawn
 from fitfloors.values import is_an_integer, is_between, is_cell
 
 MOST_ROWS = 6
@@ -24,15 +24,21 @@ def check_puzzle(value):
         raise BadPuzzle(word)
 
 
+def is_floor(value):
+    """Tell whether a value is a floor."""
+    if not isinstance(value, tuple) or not 1 <= len(value) <= MOST_ROWS:
+        return False
+    if not all([_is_floor_row(row) for row in value]):
+        return False
+    if not all([len(row) == len(value[0]) for row in value]):
+        return False
+    return 1 <= sum([row.count("#") for row in value]) <= MOST_FLOOR_CELLS
+
+
 def floor_cells(puzzle):
     """Give the cells of the floor, ascending."""
     check_puzzle(puzzle)
-    found = []
-    for row, signs in enumerate(puzzle[0]):
-        for column, sign in enumerate(signs):
-            if sign == "#":
-                found.append((row, column))
-    return tuple(found)
+    return cells_drawn(puzzle[0])
 
 
 def spare(puzzle):
@@ -82,20 +88,28 @@ def check_laying(puzzle, value):
 
 def are_placements(puzzle, values):
     """Tell whether any values are placements, unlike and ascending."""
-    if not all([_is_kind_and_cells(value) for value in values]):
+    if not all([is_kind_and_cells(value) for value in values]):
         return False
     known = placements(puzzle)
     return all([value in known for value in values]) and sorted(set(values)) == list(values)
 
 
+def is_kind_and_cells(value):
+    """Tell whether a value is a pair of an integer and a tuple of cells, as placements are."""
+    if not isinstance(value, tuple) or len(value) != 2 or not is_an_integer(value[0]):
+        return False
+    return isinstance(value[1], tuple) and all([is_cell(cell) for cell in value[1]])
+
+
 def shown(puzzle, laying):
     """Give the rows of the floor with the letter of the kind that lies on each cell."""
     check_laying(puzzle, laying)
-    signs = {}
-    for kind, cells in laying:
-        for cell in cells:
-            signs[cell] = KIND_LETTERS[kind]
-    return signed_rows(puzzle, signs)
+    return signed_rows(puzzle, letters_on(laying))
+
+
+def letters_on(laid):
+    """Give the dict from each cell that placements cover to the letter of the kind."""
+    return {cell: KIND_LETTERS[kind] for kind, cells in laid for cell in cells}
 
 
 def signed_rows(puzzle, signs):
@@ -110,23 +124,13 @@ def _what_is_wrong(value):
     """Give the word for what is wrong first with a value as a puzzle, None if nothing is."""
     if not isinstance(value, tuple) or len(value) != 3:
         return "form"
-    if not _is_floor(value[0]):
+    if not is_floor(value[0]):
         return "floor"
     if not _is_box(value[1]):
         return "box"
     if not isinstance(value[2], bool):
         return "flipped"
     return None
-
-
-def _is_floor(value):
-    if not isinstance(value, tuple) or not 1 <= len(value) <= MOST_ROWS:
-        return False
-    if not all([_is_floor_row(row) for row in value]):
-        return False
-    if not all([len(row) == len(value[0]) for row in value]):
-        return False
-    return 1 <= sum([row.count("#") for row in value]) <= MOST_FLOOR_CELLS
 
 
 def _is_floor_row(value):
@@ -161,13 +165,6 @@ def _places_of(form, cells):
         if all([cell in cells for cell in covered]):
             found.append(covered)
     return found
-
-
-def _is_kind_and_cells(value):
-    """Tell whether a value is a pair of an integer and a tuple of cells, as placements are."""
-    if not isinstance(value, tuple) or len(value) != 2 or not is_an_integer(value[0]):
-        return False
-    return isinstance(value[1], tuple) and all([is_cell(cell) for cell in value[1]])
 
 
 def _takes_whole_box(box, laying):

@@ -21,28 +21,46 @@ class Search:
         self.bits = {cell: 1 << at for at, cell in enumerate(self.cells)}
         self.all_bare = (1 << len(self.cells)) - 1
         self.start = self.all_bare
+        self.many_kinds = len(puzzle[1])
         for kind, (piece, number) in enumerate(puzzle[1]):
             self.start += number << self._kind_place(kind)
+        self.all_parts = [self._part(placement) for placement in placements(puzzle)]
         # Whatever covers the first bare cell of a state has it as its first
         # cell, since all cells before are covered.
         self.openings = {bit: [] for bit in self.bits.values()}
-        for placement in placements(puzzle):
-            self.openings[self.bits[placement[1][0]]].append(self._opening(placement))
+        for part in self.all_parts:
+            placement = part[0]
+            self.openings[self.bits[placement[1][0]]].append(part)
         self.known = {0: 1}
 
     def steps(self, state):
         """Give the pairs (placement that fits and covers the first bare cell, state behind it)."""
         if state & self.all_bare == 0:
             return []
-        found = []
-        for placement, cell_bits, kind_bits, taken in self.openings[state & -state]:
-            if state & cell_bits == cell_bits and state & kind_bits != 0:
-                found.append((placement, state - taken))
-        return found
+        return _fitting_parts(self.openings[state & -state], state)
+
+    def all_steps(self, state):
+        """Give the pairs (placement that fits, state behind it), ascending."""
+        return _fitting_parts(self.all_parts, state)
+
+    def behind(self, laid):
+        """Give the state behind placements that cover no cell twice and are not too many of a kind."""
+        state = self.start
+        for placement in laid:
+            state -= self._part(placement)[-1]
+        return state
 
     def is_bare(self, state, cell):
         """Tell whether a cell is bare in a state."""
         return state & self.bits[cell] != 0
+
+    def bare_cells(self, state):
+        """Give the cells that are bare in a state, ascending."""
+        return tuple([cell for cell in self.cells if self.is_bare(state, cell)])
+
+    def numbers_left(self, state):
+        """Give, for each kind, the number of its pieces that are left in a state."""
+        return tuple([state >> self._kind_place(kind) & KIND_MASK for kind in range(self.many_kinds)])
 
     def ways(self, state):
         """Give how many ways there are to lay all that a state has left."""
@@ -97,9 +115,18 @@ class Search:
         """Give the number of bits that stand below those of a kind."""
         return len(self.cells) + kind * KIND_BITS
 
-    def _opening(self, placement):
+    def _part(self, placement):
         """Give a placement with the bits of its cells, those of its kind, and what it takes off a state."""
         kind, cells = placement
         cell_bits = sum([self.bits[cell] for cell in cells])
         place = self._kind_place(kind)
         return placement, cell_bits, KIND_MASK << place, cell_bits + (1 << place)
+
+
+def _fitting_parts(parts, state):
+    """Give the pairs (placement, state behind it) of the parts that fit in a state."""
+    found = []
+    for placement, cell_bits, kind_bits, taken in parts:
+        if state & cell_bits == cell_bits and state & kind_bits != 0:
+            found.append((placement, state - taken))
+    return found

@@ -1,11 +1,11 @@
 """Share sums: placements times ratios above 0 that add up to the wish."""
 
-from math import gcd, lcm
+from math import lcm
 
 from fitfloors.puzzles import check_puzzle, placements
-from fitfloors.simplex import parts_above_0
+from fitfloors.simplex import parts_above_0, weights_against
 from fitfloors.sums import adds_up, columns, is_sum_of_placements, wish
-from fitfloors.values import is_an_integer
+from fitfloors.values import is_ratio, ratio_of
 
 
 def share_sum(puzzle):
@@ -15,7 +15,7 @@ def share_sum(puzzle):
         return None
     known = placements(puzzle)
     numerators, denominator = found
-    return tuple([(known[at], _ratio(numerators[at], denominator)) for at in sorted(numerators)])
+    return tuple([(known[at], ratio_of(numerators[at], denominator)) for at in sorted(numerators)])
 
 
 def shows_share_sum(puzzle, value):
@@ -25,7 +25,7 @@ def shows_share_sum(puzzle, value):
         return share_sum(puzzle) is None
     if not is_sum_of_placements(puzzle, value):
         return False
-    if not all([_is_ratio_above_0(ratio) for placement, ratio in value]):
+    if not all([is_ratio(ratio) and ratio[0] > 0 for placement, ratio in value]):
         return False
     times = 1
     for placement, (numerator, denominator) in value:
@@ -34,15 +34,10 @@ def shows_share_sum(puzzle, value):
     return adds_up(puzzle, pairs, times)
 
 
-def _ratio(numerator, denominator):
-    """Give the ratio of two integers above 0."""
-    common = gcd(numerator, denominator)
-    return numerator // common, denominator // common
+def weights_against_shares(puzzle):
+    """Give a tuple of integers, one for each of the rows of numbers, None if there is a share sum.
 
-
-def _is_ratio_above_0(value):
-    if not isinstance(value, tuple) or len(value) != 2:
-        return False
-    if not all([is_an_integer(part) and part > 0 for part in value]):
-        return False
-    return gcd(value[0], value[1]) == 1
+    By them no placement weighs below 0, and the wish does.
+    """
+    found = weights_against(columns(puzzle), wish(puzzle))
+    return None if found is None else tuple(found)

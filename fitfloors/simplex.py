@@ -1,4 +1,4 @@
-"""Numbers above 0 by which lists of integers add up to another."""
+"""Numbers above 0 by which lists of integers add up to another, and weights by which none do."""
 
 
 def parts_above_0(columns, wish):
@@ -8,28 +8,49 @@ def parts_above_0(columns, wish):
     a number to its numerator, and the denominator of them all. It is None if
     there are no such numbers.
     """
+    table = _filled_table(columns, wish)
+    return None if table.missing() > 0 else table.parts()
+
+
+def weights_against(columns, wish):
+    """Give integers for the places by which no column weighs below 0, and the wish does.
+
+    The answer is None if there are numbers above 0 by which the columns add up
+    to the wish.
+    """
+    table = _filled_table(columns, wish)
+    return table.weights() if table.missing() > 0 else None
+
+
+def _filled_table(columns, wish):
+    """Give the table when no more columns help."""
     table = Table(columns, wish)
     while table.missing() > 0:
         column = table.helping_column()
         if column is None:
-            return None
+            break
         table.put_in(column, table.row_for(column))
-    return table.parts()
+    return table
 
 
 class Table:
     """The columns and the wish, written by the columns that are put in.
 
-    A row has a number for each column and, last, one for the wish. At first
-    there is one row for each place, and all are open: their last numbers are
-    missing to the wish. A column that is put in holds one row from then on,
-    and that row's last number tells how much of the column there is. All
-    numbers are numerators above one divisor, so that they are integers.
+    A row has a number for each column, one for the wish, and one for each
+    place. At first there is one row for each place, and all are open: their
+    numbers for the wish are missing to it. A column that is put in holds one
+    row from then on, and that row's number for the wish tells how much of the
+    column there is. The numbers for the places tell of which rows, as they
+    were at first, a row is the sum. All numbers are numerators above one
+    divisor, so that they are integers.
     """
 
     def __init__(self, columns, wish):
         self.many = len(columns)
-        self.rows = [[column[place] for column in columns] + [entry] for place, entry in enumerate(wish)]
+        self.rows = []
+        for place, entry in enumerate(wish):
+            marks = [int(place == other) for other in range(len(wish))]
+            self.rows.append([column[place] for column in columns] + [entry] + marks)
         # For each row the index of the column that holds it, None while it is open.
         self.holders = [None for row in self.rows]
         self.divisor = 1
@@ -46,7 +67,7 @@ class Table:
         return None
 
     def row_for(self, column):
-        """Give the index of the row whose last number is first at 0 when a helping column grows."""
+        """Give the index of the row whose number for the wish is first at 0 when a helping column grows."""
         best = None
         for at, row in enumerate(self.rows):
             if row[column] > 0 and (best is None or self._is_before(at, best, column)):
@@ -66,17 +87,27 @@ class Table:
         """Give the dict from the columns of which there is more than 0 to how much, and the divisor."""
         found = {}
         for holder, row in zip(self.holders, self.rows):
-            if holder is not None and row[-1] > 0:
-                found[holder] = row[-1]
+            if holder is not None and row[self.many] > 0:
+                found[holder] = row[self.many]
         return found, self.divisor
+
+    def weights(self):
+        """Give integers for the places by which no column weighs below 0, and the wish does.
+
+        This is so if something is missing to the wish, and no column helps.
+        """
+        # The open rows add up to nothing above 0 at any column, and to what is
+        # missing at the wish.
+        places = range(self.many + 1, len(self.rows[0]))
+        return [-self._sum_of_open_rows(place) for place in places]
 
     def _sum_of_open_rows(self, column):
         return sum([row[column] for holder, row in zip(self.holders, self.rows) if holder is None])
 
     def _is_before(self, at, other, column):
-        """Tell whether a row's last number is at 0 before another's when a column grows."""
-        mine = self.rows[at][-1] * self.rows[other][column]
-        others = self.rows[other][-1] * self.rows[at][column]
+        """Tell whether a row's number for the wish is at 0 before another's when a column grows."""
+        mine = self.rows[at][self.many] * self.rows[other][column]
+        others = self.rows[other][self.many] * self.rows[at][column]
         # Where both are at 0 at once, a fixed sequence must decide: else the
         # same columns could be put in and out for ever (Bland's rule).
         return (mine, self._rank(at)) < (others, self._rank(other))

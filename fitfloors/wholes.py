@@ -1,9 +1,9 @@
 """Whole sums: placements times integers that add up to the wish."""
 
-from fitfloors.lattices import echelon, lessened
+from fitfloors.lattices import echelon, lessened, weights_against
 from fitfloors.puzzles import check_puzzle, placements
 from fitfloors.sums import adds_up, columns, is_sum_of_placements, wish
-from fitfloors.values import is_an_integer
+from fitfloors.values import is_an_integer, ratio_of
 
 
 def whole_sum(puzzle):
@@ -37,3 +37,16 @@ def steps_between(puzzle):
     """Give, ascending, the integers above 1 among the least numbers that sums can have in step."""
     steps = echelon(columns(puzzle), len(wish(puzzle)))
     return tuple(sorted([step[place] for place, step in steps.items() if step[place] > 1]))
+
+
+def weights_against_wholes(puzzle):
+    """Give a tuple of ratios, one for each of the rows of numbers, None if there is a whole sum.
+
+    By them each placement weighs an integer, and the wish does not.
+    """
+    wanted = wish(puzzle)
+    found = weights_against(echelon(columns(puzzle), len(wanted)), wanted)
+    if found is None:
+        return None
+    numerators, denominator = found
+    return tuple([ratio_of(numerator, denominator) for numerator in numerators])

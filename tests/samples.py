@@ -246,6 +246,17 @@ WHOLE_ONLY = (("-#--", "####"), ((THREE, 1), (TWO, 1)), True)
 SHARE_ONLY = (("##",) * 4, ((((0, 0), (1, 0), (2, 0), (3, 0)), 1), (SQUARE, 1)), True)
 # There are a whole sum and a share sum, and no laying.
 BOTH_ONLY = (("##",) * 3, ((TWO, 1), (((0, 1), (0, 2), (1, 0), (1, 1)), 1)), True)
+# The same, with ever longer papers.
+PLUS = ((0, 1), (1, 0), (1, 1), (1, 2), (2, 1))
+TEE = ((0, 1), (1, 0), (1, 1), (1, 2))
+CORNERED = (("---", "###", "###"), ((((0, 0), (1, 0), (1, 1)), 1), (((0, 0), (1, 0), (2, 0)), 1)), False)
+NINE = (("###",) * 3, ((THREE, 2), (BENT, 1)), False)
+SNAKE = (("######", "######"), ((((0, 0), (1, 0), (1, 1), (2, 1)), 1), (TWO, 4)), False)
+CROSSED = (("--#--", "#####", "#####", "#####"), ((PLUS, 1), (ONE, 1), (TWO, 5)), True)
+WIDE = (("####",) * 4, ((TWO, 2), (TEE, 1), (((0, 2), (1, 0), (1, 1), (1, 2), (2, 1)), 1), (BENT, 1)), True)
+CASES = [BOTH_ONLY, CORNERED, NINE, SNAKE, CROSSED, WIDE]
+# There is a whole sum and no share sum, again.
+NO_SHARES = (("##-", "-##", "-#-"), ((((0, 0), (1, 0)), 1), (((0, 0), (1, 0), (2, 0)), 1)), False)
 # More and fewer cells than the pieces have.
 SPARE_ABOVE = (("###", "###"), ((BENT, 1), (ONE, 2)), True)
 SPARE_BELOW = (("###", "###"), ((BENT, 1), (TWO, 2), (ONE, 2)), True)

@@ -6,7 +6,7 @@ from fractions import Fraction
 
 from fitfloors.counting import layings
 from fitfloors.puzzles import placements
-from fitfloors.shares import share_sum, shows_share_sum
+from fitfloors.shares import share_sum, shows_share_sum, weights_against_shares
 from samples import (
     BARE,
     BOTH_ONLY,
@@ -38,7 +38,7 @@ from samples import (
     WRONG,
     Case,
 )
-from searches import has_share_sum, total_of
+from searches import has_share_sum, rows_of_numbers, total_of
 
 WITH_ONE = [PLAIN, HOLED, MIXED, STAIRS, STAIRS_FLIPPED, GAPS, LARGE, JUST_2000, FOURS, FAR_MORE, SHARE_ONLY, BOTH_ONLY]
 WITHOUT = [LAME, BARE, WHOLE_ONLY, SPARE_ABOVE, SPARE_BELOW, TOO_SMALL]
@@ -298,6 +298,23 @@ class ShowsShareSumTest(Case):
         self.assertIs(shows_share_sum(PLAIN, tuple(value)), False)
         self.assertIs(shows_share_sum(PLAIN, tuple(tuple(pair) for pair in value)), False)
         self.assertEqual(value, [[placement, list(ratio)] for placement, ratio in SUM])
+
+
+class WeightsTest(Case):
+    def test_just_where_there_is_no_share_sum(self):
+        for puzzle in WITH_ONE + WITHOUT + SMALL:
+            self.assertEqual(weights_against_shares(puzzle) is None, share_sum(puzzle) is not None, puzzle)
+
+    def test_no_placement_weighs_below_0_and_the_wish_does(self):
+        for puzzle in WITHOUT + SMALL:
+            weights = weights_against_shares(puzzle)
+            if weights is None:
+                continue
+            self.assertEqual({type(weight) for weight in weights}, {int})
+            rows = rows_of_numbers(puzzle)
+            for at in range(len(rows[0][0])):
+                self.assertGreaterEqual(sum(weight * row[at] for weight, (row, wanted) in zip(weights, rows)), 0)
+            self.assertLess(sum(weight * wanted for weight, (row, wanted) in zip(weights, rows)), 0)
 
 
 class ArgumentsTest(Case):

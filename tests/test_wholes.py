@@ -1,10 +1,12 @@
 """Point 7: whole sums, and the least numbers that sums can have in step."""
 
+import math
 import unittest
+from fractions import Fraction
 
 from fitfloors.counting import layings
 from fitfloors.puzzles import placements
-from fitfloors.wholes import shows_whole_sum, steps_between, whole_sum
+from fitfloors.wholes import shows_whole_sum, steps_between, weights_against_wholes, whole_sum
 from samples import (
     BARE,
     BENT,
@@ -36,7 +38,7 @@ from samples import (
     WRONG,
     Case,
 )
-from searches import has_whole_sum, steps_by_minors, total_of
+from searches import has_whole_sum, rows_of_numbers, steps_by_minors, total_of
 
 WITH_ONE = [PLAIN, HOLED, MIXED, STAIRS, STAIRS_FLIPPED, GAPS, LARGE, JUST_2000, FOURS, FAR_MORE, WHOLE_ONLY, BOTH_ONLY]
 WITHOUT = [LAME, BARE, SHARE_ONLY, SPARE_ABOVE, SPARE_BELOW, TOO_SMALL]
@@ -287,6 +289,24 @@ class StepsBetweenTest(Case):
             for number in [1, 8]:
                 other = tuple((piece, number) for piece, many in box)
                 self.assertEqual(steps_between((floor, other, is_flipped)), wanted)
+
+
+class WeightsTest(Case):
+    def test_just_where_there_is_no_whole_sum(self):
+        for puzzle in WITH_ONE + WITHOUT + SMALL:
+            self.assertEqual(weights_against_wholes(puzzle) is None, whole_sum(puzzle) is not None, puzzle)
+
+    def test_placements_weigh_integers_and_the_wish_does_not(self):
+        for puzzle in WITHOUT + SMALL:
+            weights = weights_against_wholes(puzzle)
+            if weights is None:
+                continue
+            self.assertTrue(all(weight[1] > 0 and math.gcd(*weight) == 1 for weight in weights))
+            ratios = [Fraction(*weight) for weight in weights]
+            rows = rows_of_numbers(puzzle)
+            for at in range(len(rows[0][0])):
+                self.assertEqual(sum(ratio * row[at] for ratio, (row, wanted) in zip(ratios, rows)).denominator, 1)
+            self.assertGreater(sum(ratio * wanted for ratio, (row, wanted) in zip(ratios, rows)).denominator, 1)
 
 
 class ArgumentsTest(Case):
