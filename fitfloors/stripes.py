@@ -23,7 +23,6 @@ def stripes(puzzle, many):
 
 def fewest_colours(puzzle):
     """Give the least number of colours whose stripes show that there is no laying, None if none do."""
-    check_puzzle(puzzle)
     for many in range(FEWEST_COLOURS, MOST_COLOURS + 1):
         if stripes(puzzle, many):
             return many
